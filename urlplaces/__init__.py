@@ -1,0 +1,1 @@
+"""URLs parsed, joined and normalized."""
