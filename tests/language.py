@@ -32,6 +32,7 @@ METHODS = set(
     "setdefault split splitlines startswith strip update upper values zfill bit_length title capitalize swapcase "
     "casefold center expandtabs removeprefix removesuffix rindex isascii isdecimal isnumeric istitle isidentifier "
     "isprintable add discard sort".split())
+MODIFYING = set("append clear extend insert pop remove reverse setdefault update add discard sort".split())
 OPERATORS = "add sub mul floordiv mod pow and or xor lshift rshift".split()
 DOUBLE = {f"__{name}__" for name in (
     "init eq repr str len enter exit call iter lt le gt ge ne neg pos invert abs bool contains getitem setitem".split()
@@ -63,7 +64,8 @@ def faults(sources):
         found.extend((name, line, rule) for line, rule in text_faults(name, source, trees[name]))
     own = own_names(trees.values())
     for name, tree in trees.items():
-        for check in (statement_faults, module_faults, name_faults, class_faults, error_faults, expression_faults):
+        for check in (statement_faults, module_faults, name_faults, class_faults, error_faults, expression_faults,
+                      change_faults):
             found.extend((name, line, rule) for line, rule in check(tree))
         found.extend((name, line, rule) for line, rule in call_faults(tree, own))
     found.extend(import_faults(trees))
@@ -142,28 +144,37 @@ def all_arguments(node):
     return given.posonlyargs + given.args + given.kwonlyargs + stars
 
 
-def is_plain(value):
+def is_plain(value, functions=()):
+    """Whether a value is written out; in lists, tuples and dicts these functions may stand too."""
     if isinstance(value, (ast.Tuple, ast.List)):
-        return all(is_plain(each) for each in value.elts)
+        return all(is_plain(each, functions) or is_one_of(each, functions) for each in value.elts)
     if isinstance(value, ast.Dict):
-        return all(is_plain(each) for each in value.keys + value.values)
+        rows = value.keys + value.values
+        return all(is_plain(each, functions) or is_one_of(each, functions) for each in rows)
     if isinstance(value, ast.UnaryOp):
         return isinstance(value.op, ast.USub) and is_plain(value.operand)
     return isinstance(value, ast.Constant)
 
 
+def is_one_of(value, functions):
+    return isinstance(value, ast.Name) and value.id in functions
+
+
 def module_faults(tree):
     bound = []
+    functions = []
     for place, node in enumerate(tree.body):
         if isinstance(node, ast.ImportFrom):
             bound.extend(alias.asname or alias.name for alias in node.names)
         elif isinstance(node, (ast.FunctionDef, ast.ClassDef)):
             bound.append(node.name)
-            if isinstance(node, ast.FunctionDef) and node.decorator_list:
-                yield node.lineno, "L4"
+            if isinstance(node, ast.FunctionDef):
+                functions.append(node.name)
+                if node.decorator_list:
+                    yield node.lineno, "L4"
         elif isinstance(node, ast.Assign) and len(node.targets) == 1 and isinstance(node.targets[0], ast.Name):
             bound.append(node.targets[0].id)
-            if not is_plain(node.value):
+            if not is_plain(node.value, functions):
                 yield node.lineno, "L3"
             if any(isinstance(each, (ast.List, ast.Dict)) for each in list(ast.walk(node.value))[1:]):
                 yield node.lineno, "L15"
@@ -278,6 +289,29 @@ def expression_faults(tree):
                         yield node.lineno, "L20"
         if isinstance(node, (ast.For, ast.comprehension)) and is_set(node.iter):
             yield node.iter.lineno, "L24"
+
+
+def change_faults(tree):
+    """Functions that are called straight from a table, tables and looped lists that are modified."""
+    tables = {each.id for node in tree.body if isinstance(node, ast.Assign) for each in node.targets}
+    tables |= {each.name for node in tree.body if isinstance(node, ast.ImportFrom) for each in node.names}
+    for node in ast.walk(tree):
+        if isinstance(node, ast.Call) and isinstance(node.func, ast.Subscript):
+            yield node.lineno, "L3"
+        if isinstance(node, ast.For) and isinstance(node.iter, ast.Name):
+            for row in node.body:
+                yield from ((line, "L23") for line, name in modified_names(row) if name == node.iter.id)
+    yield from ((line, "L15") for line, name in modified_names(tree) if name in tables)
+
+
+def modified_names(tree):
+    """The names whose items are assigned or deleted, or of which a method is called that modifies them."""
+    for node in ast.walk(tree):
+        if isinstance(node, ast.Subscript) and isinstance(node.value, ast.Name) and not isinstance(node.ctx, ast.Load):
+            yield node.lineno, node.value.id
+        if isinstance(node, ast.Call) and isinstance(node.func, ast.Attribute):
+            if isinstance(node.func.value, ast.Name) and node.func.attr in MODIFYING:
+                yield node.lineno, node.func.value.id
 
 
 def is_set(node):

@@ -21,6 +21,10 @@ FAULTS = (
     ("A = B = 1\n", "L3"),
     ("A = 1\nprint(A)\n", "L3"),
     ("if True:\n    A = 1\n", "L3"),
+    ("A = {'b': c}\n", "L3"),
+    ("A = (b,)\n\n\ndef b():\n    return 1\n", "L3"),
+    ("def b():\n    return 1\n\n\nA = b\n", "L3"),
+    ("A = {}\n\n\ndef f(b):\n    return A[b](b)\n", "L3"),
     ("def deco(f):\n    return f\n\n\n@deco\ndef g():\n    return 1\n", "L4"),
     ("def f(rows=[]):\n    return rows\n", "L4"),
     ("class A:\n    @some\n    def b(self):\n        return 1\n", "L5"),
@@ -28,6 +32,9 @@ FAULTS = (
     ("class A:\n    rows = list('a')\n", "L5"),
     ("A = [[1]]\n", "L15"),
     ("A = 1\nA = 2\n", "L15"),
+    ("A = [1]\n\n\ndef f():\n    A.append(2)\n", "L15"),
+    ("A = {}\n\n\ndef f():\n    A[1] = 2\n", "L15"),
+    ("from urlplaces.one import ONE\n\n\ndef f():\n    del ONE[1]\n", "L15"),
     ("def f():\n    class A:\n        pass\n    return A()\n", "L15"),
     ("def f(len):\n    return len\n", "L15"),
     ("from math import gcd\n\n\ndef f(gcd):\n    return gcd\n", "L15"),
@@ -60,6 +67,8 @@ FAULTS = (
     ("def f(a) -> int:\n    return a\n", "L21"),
     ("def f(a):\n    return int(a, base=8)\n", "L22"),
     ("def f(a):\n    b = zip(a, a)\n    return b\n", "L23"),
+    ("def f(a):\n    for b in a:\n        a.append(b)\n", "L23"),
+    ("def f(a):\n    for b in a:\n        if b:\n            a[0] = b\n", "L23"),
     ("def f(a):\n    for b in set(a):\n        return b\n", "L24"),
     ("def f(a):\n    return a.encode()\n", "L25"),
     ("def f(a):\n    return a.split(sep=' ')\n", "L25"),
@@ -96,7 +105,8 @@ class Package(unittest.TestCase):
 
 class Script(unittest.TestCase):
     def test_a_package_without_faults(self):
-        good = {"__init__.py": '"""A package."""\n', "one.py": "TWO = 2\n\n\ndef two(a):\n    return a is None\n",
+        good = {"__init__.py": '"""A package."""\n',
+                "one.py": "TWO = 2\n\n\ndef two(a):\n    return a is None\n\n\nTWOS = {'two': two}\n",
                 "three.py": "from urlplaces.one import two\n\n\ndef three():\n    return two(1)\n"}
         self.assertEqual(language.faults(good), [])
 

@@ -4,21 +4,10 @@ import itertools
 import unittest
 
 import second_reading
+from common import NO_STRINGS, all_texts, parts_of
 from urlplaces.errors import BadUrl, NoText
 from urlplaces.parsing import is_url, parse
 from urlplaces.parts import Url
-
-NO_STRINGS = (None, True, False, 0, 17, -10 ** 59, (), ("a",), [], ["a:b"], {}, {"a": "b"}, b"a:b", parse("a:b"))
-
-
-def all_texts(signs, most):
-    for many in range(most + 1):
-        for row in itertools.product(signs, repeat=many):
-            yield "".join(row)
-
-
-def parts_of(url):
-    return {name: getattr(url, name) for name in Url.PARTS}
 
 
 class ParsingCase(unittest.TestCase):

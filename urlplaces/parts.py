@@ -1,8 +1,8 @@
 """URLs as parts [6]."""
 
 from urlplaces.errors import BadPart
+from urlplaces.joining import join
 from urlplaces.signs import wrong_place
-from urlplaces.walk import joined
 
 
 class Url:
@@ -81,7 +81,7 @@ class Url:
     def __add__(self, other):
         if not isinstance(other, Url):
             return NotImplemented
-        return joined(self, other)
+        return join(self, other)
 
     def __eq__(self, other):
         return isinstance(other, Url) and self._parts == other._parts

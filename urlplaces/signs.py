@@ -1,13 +1,9 @@
 """Which signs may stand in the parts of a URL [4, 5], and where the first wrong one is."""
 
+from urlplaces.escapes import HEXADECIMAL, begins_with_octet, signs_of
+
 LETTERS = "ABCDEFGHIJKLMNOPQRSTUVWXYZabcdefghijklmnopqrstuvwxyz"
 DIGITS = "0123456789"
-HEXADECIMAL = "0123456789ABCDEFabcdef"
-PLAIN = "-.0123456789ABCDEFGHIJKLMNOPQRSTUVWXYZ_abcdefghijklmnopqrstuvwxyz~"
-INNER = "!$&'()*+,;="
-
-# The signs of each part that may have escapes, beside plain and inner signs.
-MORE = {"user": ":", "host": "", "path": ":@/", "query": ":@/?", "fragment": ":@/?"}
 
 PORT_DIGITS = 5
 GREATEST_PORT = 65535
@@ -21,7 +17,7 @@ def wrong_place(name, text):
         return _wrong_in_port(text)
     if name == "host" and text.startswith("["):
         return _wrong_in_brackets(text)
-    return _wrong_among(text, PLAIN + INNER + MORE[name])
+    return _wrong_among(text, signs_of(name))
 
 
 def _wrong_in_scheme(text):
@@ -50,7 +46,7 @@ def _wrong_among(text, signs):
     """The first wrong place in a text of these signs and of escapes, or None."""
     start = 0
     for number, piece in enumerate(text.split("^")):
-        if number > 0 and not _begins_with_octet(piece):
+        if number > 0 and not begins_with_octet(piece):
             return ("escape", start - 1)
         at = _first_other(piece, signs)
         if at < len(piece):
@@ -62,7 +58,3 @@ def _wrong_among(text, signs):
 def _first_other(text, signs):
     """The index of the first sign that is none of these, or the length of the text."""
     return len(text) - len(text.lstrip(signs))
-
-
-def _begins_with_octet(text):
-    return len(text) > 1 and text[0] in HEXADECIMAL and text[1] in HEXADECIMAL
