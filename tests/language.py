@@ -11,6 +11,8 @@ import re
 import tokenize
 import warnings
 
+from language_whole import whole_faults
+
 PACKAGE = "urlplaces"
 LIBRARY = {
     "heapq": ("heappush", "heappop", "heapify", "heapreplace", "heappushpop"),
@@ -69,6 +71,7 @@ def faults(sources):
             found.extend((name, line, rule) for line, rule in check(tree))
         found.extend((name, line, rule) for line, rule in call_faults(tree, own))
     found.extend(import_faults(trees))
+    found.extend(whole_faults(trees))
     if "__init__.py" not in sources:
         found.append(("__init__.py", 0, "L14"))
     return sorted(set(found))

@@ -11,8 +11,35 @@ FUNCTIONS = {
                 "leads(base, reference, goal)"],
     "bases": ["relative(base, goal)", "parting(one, other)", "interchangeable(one, other)"],
     "rules": ["steps(url)", "after(url, step)", "normal(url)", "alike(one, other)", "paper(one, other)"],
+    "checker": ["shown(one, other, value)", "walked(url, values)"],
+    "queries": ["pairs(query)", "query_of(items)", "values_of(query, key, *, default=())"],
+}
+# The methods of each class without their own object; a name alone is a property.
+CLASSES = {
+    "parts": {"Url": [
+        "of(*, scheme=None, user=None, host=None, port=None, path='', query=None, fragment=None)", "replaced(**changes)",
+        "scheme", "user", "host", "port", "path", "query", "fragment", "has_authority", "is_base", "is_opaque",
+        "__str__()", "__repr__()", "__len__()", "__eq__(other)", "__add__(other)"]},
+    "routes": {"Routes": ["__init__()", "add(prefix, name)", "remove(prefix)", "__call__(url)", "covers(url)", "__len__()"]},
+}
+# The values of classes, and those that are no methods.
+VALUES = {
+    "parts": {"Url": {"PARTS": ("scheme", "user", "host", "port", "path", "query", "fragment")}},
+    "routes": {"Routes": {"MOST": 50}},
 }
 NAMES = {"escapes": ["PLAIN", "INNER"], "rules": ["RULES"]}
+
+
+def told_of(found, name):
+    """A method of the class itself with its parameters, or the name of a property."""
+    value = vars(found)[name]
+    if isinstance(value, property):
+        return name
+    if isinstance(value, staticmethod):
+        return name + str(inspect.signature(value.__func__))
+    function = value.__func__ if isinstance(value, classmethod) else value
+    signature = inspect.signature(function)
+    return name + str(signature.replace(parameters=list(signature.parameters.values())[1:]))
 
 
 class Interface(unittest.TestCase):
@@ -26,6 +53,25 @@ class Interface(unittest.TestCase):
                     self.assertTrue(inspect.isfunction(function))
                     self.assertEqual(function.__module__, module.__name__)
                     self.assertEqual(name + str(inspect.signature(function)), row)
+
+    def test_classes(self):
+        for file, classes in CLASSES.items():
+            module = importlib.import_module("urlplaces." + file)
+            for name, rows in classes.items():
+                found = getattr(module, name)
+                self.assertTrue(inspect.isclass(found))
+                self.assertEqual(found.__module__, module.__name__)
+                for row in rows:
+                    with self.subTest((name, row)):
+                        self.assertEqual(told_of(found, row.partition("(")[0]), row)
+
+    def test_values_of_classes(self):
+        for file, classes in VALUES.items():
+            for name, values in classes.items():
+                found = getattr(importlib.import_module("urlplaces." + file), name)
+                for each, value in values.items():
+                    self.assertEqual(vars(found)[each], value)
+                    self.assertIs(type(vars(found)[each]), type(value))
 
     def test_names(self):
         for file, names in NAMES.items():

@@ -82,6 +82,21 @@ FAULTS = (
     ("class A:\n    def __len__(self):\n        return self.b\n", "L28"),
     ("class A:\n    def __eq__(self, other):\n        return self.b == other.b\n", "L28"),
     ("class A:\n    def __str__(self):\n        raise ValueError('')\n", "L28"),
+    ("def f(a):\n    try:\n        return a\n    finally:\n        a.append(1)\n", "L6"),
+    ("def f(a, b):\n    try:\n        return a\n    finally:\n        a.b = b[1]\n", "L6"),
+    ("def f(a):\n    for _ in a:\n        return _\n", "L12"),
+    ("def f(a):\n    b = set(a)\n    return b\n", "L24"),
+    ("def f(a):\n    return {b for b in a}\n", "L24"),
+    ("def f(a):\n    for b in a:\n        yield b\n\n\ndef g(a):\n    c = f(a)\n    return c\n", "L23"),
+    ("def f(a):\n    for b in a:\n        yield b\n\n\ndef g(a):\n    return 1 in f(a)\n", "L23"),
+    ("def f(a):\n    try:\n        yield a\n    finally:\n        a = 1\n", "L23"),
+    ("class A:\n    @property\n    def b(self):\n        yield 1\n", "L23"),
+    ("class A:\n    def __init__(self):\n        self.b = 1\n\n    def b(self):\n        return 2\n", "L18"),
+    ("class A:\n    def __init__(self):\n        self.pop = 1\n", "L26"),
+    ("def f(a):\n    return a.b\n", "L18"),
+    ("class A:\n    def __contains__(self, a):\n        self.b = a\n        return True\n", "L5"),
+    ("class A:\n    @property\n    def b(self):\n        self.rows[1] = 2\n        return 3\n", "L5"),
+    ("def f(a):\n    try:\n        a()\n    except KeyError as e:\n        return e.args\n", "L19"),
 )
 
 

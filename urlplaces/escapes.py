@@ -18,7 +18,7 @@ def octets(text):
     if not isinstance(text, str):
         raise NoText(text)
     numbers = []
-    for place, piece in _pieces(text):
+    for place, piece in pieces_of(text):
         if piece == "^":
             raise BadEscape(place)
         numbers.append(int(piece[1:], 16) if len(piece) == ESCAPE_SIZE else ord(piece))
@@ -40,7 +40,7 @@ def mended(text, name):
     """The text with escapes for all signs that may not stand in the part with this name."""
     signs = signs_of(name)
     pieces = []
-    for _, piece in _pieces(text):
+    for _, piece in pieces_of(text):
         may_stand = len(piece) == ESCAPE_SIZE or piece in signs
         pieces.append(piece if may_stand else _escape(ord(piece)))
     return "".join(pieces)
@@ -69,7 +69,7 @@ def plainer(text):
     return "".join(plain)
 
 
-def _pieces(text):
+def pieces_of(text):
     """The signs and the escapes of a text, each with its index; a "^" that begins no escape is a sign."""
     found = []
     at = 0
