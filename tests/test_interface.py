@@ -13,6 +13,8 @@ FUNCTIONS = {
     "rules": ["steps(url)", "after(url, step)", "normal(url)", "alike(one, other)", "paper(one, other)"],
     "checker": ["shown(one, other, value)", "walked(url, values)"],
     "queries": ["pairs(query)", "query_of(items)", "values_of(query, key, *, default=())"],
+    "sites": ["shows(site, start, goal, value)"],
+    "redirects": ["paper(redirects, url)", "shows(redirects, url, value)"],
 }
 # The methods of each class without their own object; a name alone is a property.
 CLASSES = {
@@ -21,11 +23,25 @@ CLASSES = {
         "scheme", "user", "host", "port", "path", "query", "fragment", "has_authority", "is_base", "is_opaque",
         "__str__()", "__repr__()", "__len__()", "__eq__(other)", "__add__(other)"]},
     "routes": {"Routes": ["__init__()", "add(prefix, name)", "remove(prefix)", "__call__(url)", "covers(url)", "__len__()"]},
+    "tours": {"Tour": [
+        "__init__(base)", "here", "go(reference)", "back(many=1)", "forward(many=1)", "trail()", "__len__()", "least(goal)",
+        "tried(function)"]},
+    "sites": {"Site": [
+        "__init__()", "put(page, references)", "pages()", "references(page)", "targets(page)", "__len__()", "__eq__(other)",
+        "image(url, branch, other)", "move(branch, other)", "undo()", "shortest(start, goal)", "paper(start, goal)"]},
+    "redirects": {"Redirects": [
+        "__init__()", "add(branch, other)", "remove(branch)", "rules()", "__len__()", "__eq__(other)", "following(url)",
+        "__contains__(url)", "chain(url)", "final(url)", "origins(url)", "telling(other)"]},
+    "desk": {"Desk": ["__init__(text)", "say(row)"]},
 }
+KINDS = {("Url", "of"): classmethod, ("Site", "image"): staticmethod}
+GENERATORS = {("Tour", "trail"), ("Redirects", "chain")}
 # The values of classes, and those that are no methods.
 VALUES = {
     "parts": {"Url": {"PARTS": ("scheme", "user", "host", "port", "path", "query", "fragment")}},
     "routes": {"Routes": {"MOST": 50}},
+    "sites": {"Site": {"MOST": 100}},
+    "redirects": {"Redirects": {"MOST": 50}},
 }
 NAMES = {"escapes": ["PLAIN", "INNER"], "rules": ["RULES"]}
 
@@ -64,6 +80,14 @@ class Interface(unittest.TestCase):
                 for row in rows:
                     with self.subTest((name, row)):
                         self.assertEqual(told_of(found, row.partition("(")[0]), row)
+
+    def test_kinds_of_methods(self):
+        for file, classes in CLASSES.items():
+            for name, rows in classes.items():
+                for each, value in vars(getattr(importlib.import_module("urlplaces." + file), name)).items():
+                    kind = type(value) if isinstance(value, (classmethod, staticmethod)) else None
+                    self.assertIs(kind, KINDS.get((name, each)))
+                    self.assertIs(inspect.isgeneratorfunction(value), (name, each) in GENERATORS)
 
     def test_values_of_classes(self):
         for file, classes in VALUES.items():

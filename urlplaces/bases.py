@@ -7,11 +7,17 @@ from urlplaces.parts import Url
 from urlplaces.rules import alike
 
 
+def rank(url):
+    """What is least for the least one of several URLs."""
+    text = str(url)
+    return (len(text), text)
+
+
 def relative(base, goal):
     """The least reference that leads from a base to a goal, or None."""
     if not base.is_base:
         raise NoBase()
-    return min(_leading(base, goal), key=_rank, default=None)
+    return min(_leading(base, goal), key=rank, default=None)
 
 
 def parting(one, other):
@@ -32,11 +38,6 @@ def parting(one, other):
 def interchangeable(one, other):
     """Whether every reference leads from two bases to URLs that are alike."""
     return parting(one, other) is None
-
-
-def _rank(url):
-    text = str(url)
-    return (len(text), text)
 
 
 def _leading(base, goal):

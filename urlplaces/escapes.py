@@ -1,6 +1,7 @@
 """Signs, octets and escapes [4, 5]."""
 
 from urlplaces.errors import BadEscape, NoOctet, NoText
+from urlplaces.kinds import is_integer
 
 PLAIN = "-.0123456789ABCDEFGHIJKLMNOPQRSTUVWXYZ_abcdefghijklmnopqrstuvwxyz~"
 INNER = "!$&'()*+,;="
@@ -86,4 +87,4 @@ def _escape(number):
 
 
 def _is_octet(value):
-    return isinstance(value, int) and not isinstance(value, bool) and 0 <= value <= GREATEST_OCTET
+    return is_integer(value) and 0 <= value <= GREATEST_OCTET

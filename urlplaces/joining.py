@@ -21,12 +21,13 @@ def stack(path):
 
 def cleaned(path, *, has_authority=True):
     """The path without dot segments; it is still possible beside the authority."""
-    if not path.startswith("/"):
-        return path
-    clean = "/" + "/".join(stack(path))
-    if clean.startswith("//") and not has_authority:
-        return "/." + clean
-    return clean
+    return path_of(stack(path), has_authority) if path.startswith("/") else path
+
+
+def path_of(segments, has_authority):
+    """The cleaned path with this stack; it is possible beside the authority."""
+    path = "/" + "/".join(segments)
+    return "/." + path if path.startswith("//") and not has_authority else path
 
 
 def join(base, reference):

@@ -4,6 +4,7 @@ from urlplaces.changes import change, is_needless, parts_of, starts_of
 from urlplaces.errors import BadStep
 from urlplaces.escapes import plainer
 from urlplaces.joining import cleaned
+from urlplaces.kinds import is_integer
 from urlplaces.parts import Url
 from urlplaces.ways import way
 
@@ -80,7 +81,7 @@ def _is_step(value):
     if not isinstance(value, tuple) or len(value) != 2:
         return False
     rule, index = value
-    return isinstance(rule, str) and rule in RULES and isinstance(index, int) and not isinstance(index, bool)
+    return isinstance(rule, str) and rule in RULES and is_integer(index)
 
 
 def _plainer_if_there(part):
